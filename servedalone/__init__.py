@@ -1,0 +1,1 @@
+"""A language model served to many, as if each were alone."""

@@ -1,0 +1,168 @@
+"""What several tests use: wrong values, nets, and a reckoning of its own from the document's words."""
+
+import copy
+import random
+import unittest
+
+from servedalone import errors
+from servedalone.asks import Ask
+from servedalone.nets import Net
+from servedalone.rules import Rule
+
+PRIMES = [number for number in range(2, 98) if all(number % less for less in range(2, number))]
+GREAT = 10 ** 399
+OWN_ERRORS = (
+    errors.InvalidNumber, errors.InvalidLetter, errors.NoRoom, errors.NotHeld,
+    errors.NotAlone, errors.NoRequest, errors.NoHouse, errors.TooLarge,
+)
+
+
+def deep_tuple():
+    """A tuple ten deep."""
+    value = (1,)
+    for _ in range(9):
+        value = (value, 0)
+    return value
+
+
+def no_integers():
+    """Values that are no integers at all, made anew for each call."""
+    return [True, False, None, "", "1", "a word", (), (1,), (1, (2, [3])), [], [1], [[1], 2], deep_tuple(), [0] * 200]
+
+
+def wrong_numbers(low, high):
+    """Values that are no integers from low to high."""
+    return [low - 1, high + 1, -GREAT, GREAT, -7, high + 1000] + no_integers()
+
+
+class Case(unittest.TestCase):
+    """A test case that compares kinds as well as values."""
+
+    def assert_same(self, found, wanted):
+        """Equal, and of the same kinds, inside of one another too (1 is not True, a list no tuple)."""
+        self.assertEqual(kinds(found), kinds(wanted))
+
+    def assert_fails(self, error, values, call, *arguments, **named):
+        """The call raises just this error, which keeps just these values."""
+        with self.assertRaises(errors.ServeError) as caught:
+            call(*arguments, **named)
+        self.assertIs(type(caught.exception), error)
+        kept = vars(caught.exception)
+        self.assertEqual(sorted(kept), sorted(values))
+        for name, value in values.items():
+            self.assert_same(kept[name], value)
+
+    def assert_keeps(self, call, *arguments, **named):
+        """The call leaves what it is passed as it was; returns its result."""
+        before = copy.deepcopy((arguments, named))
+        result = call(*arguments, **named)
+        self.assert_same((arguments, named), before)
+        return result
+
+
+def kinds(value):
+    """The value with the kind of each part, so that True and 1, () and [] are told apart."""
+    if isinstance(value, (tuple, list)):
+        return type(value).__name__, [kinds(part) for part in value]
+    if isinstance(value, dict):
+        return "dict", [(kinds(key), kinds(value[key])) for key in value]
+    return type(value).__name__, value
+
+
+def as_lists(value):
+    """Tuples as lists, inside of one another too."""
+    if isinstance(value, (tuple, list)):
+        return [as_lists(part) for part in value]
+    return value
+
+
+def as_tuples(value):
+    """Lists as tuples, inside of one another too."""
+    if isinstance(value, (tuple, list)):
+        return tuple(as_tuples(part) for part in value)
+    return value
+
+
+def spoil(value):
+    """Changes every list in the value."""
+    if isinstance(value, (tuple, list)):
+        for part in value:
+            spoil(part)
+    if isinstance(value, list):
+        value.reverse()
+        value.append(99)
+        del value[0]
+
+
+def parts_of_net(source, prime=None, letters=None, width=None, layers=None, end=None):
+    """The arguments of a net, drawn from this random source where they are not given."""
+    prime = prime or source.choice(PRIMES)
+    letters = letters or source.randint(1, 12)
+    width = width or source.randint(1, 4)
+    layers = source.randint(0, 3) if layers is None else layers
+
+    def vector():
+        return tuple(source.randrange(prime) for _ in range(width))
+
+    def rows(many):
+        return tuple(vector() for _ in range(many))
+
+    made = tuple(tuple(rows(width) for _ in range(5)) for _ in range(layers))
+    return prime, rows(letters), vector(), made, rows(letters), end
+
+
+def some_net(seed, **wanted):
+    """A net drawn by this seed."""
+    return Net(*parts_of_net(random.Random(seed), **wanted))
+
+
+def reckoned_row(parts, rows, letter):
+    """The row of a letter, written down once more from the document, place by place."""
+    prime, embed, shift, layers, out, _ = parts
+    places = range(len(shift))
+    x = [embed[letter][k] + len(rows) * shift[k] for k in places]
+    pairs = []
+    for at, (query, key, value, first, second) in enumerate(layers):
+        q = [sum(query[i][k] * x[k] for k in places) for i in places]
+        u = [sum(key[i][k] * x[k] for k in places) % prime for i in places]
+        w = [sum(value[i][k] * x[k] for k in places) % prime for i in places]
+        pairs.append((tuple(u), tuple(w)))
+        for other_u, other_w in [row[0][at] for row in rows] + [(u, w)]:
+            agreed = sum(q[k] * other_u[k] for k in places)
+            x = [x[k] + agreed * other_w[k] for k in places]
+        y = [sum(first[i][k] * x[k] for k in places) for i in places]
+        x = [(x[i] + sum(second[i][k] * y[k] * y[k] for k in places)) % prime for i in places]
+    weights = [sum(vector[k] * x[k] for k in places) % prime + 1 for vector in out]
+    return tuple(pairs), tuple(weights)
+
+
+def reckoned_rows(parts, letters):
+    """The rows of these letters, by reckoned_row."""
+    rows = ()
+    for letter in letters:
+        rows = rows + (reckoned_row(parts, rows, letter),)
+    return rows
+
+
+def some_rule(source, letters):
+    """A rule of up to six states for so many letters."""
+    states = source.randint(1, 6)
+    steps = [
+        [source.choice([None, source.randrange(states), source.randrange(states)]) for _ in range(letters)]
+        for _ in range(states)
+    ]
+    return Rule(source.randrange(states), steps)
+
+
+def some_ask(source, letters, **wanted):
+    """An ask for a net of so many letters."""
+    def row(most):
+        return [source.randrange(letters) for _ in range(source.randint(1, most))]
+
+    named = {
+        "stops": [row(4) for _ in range(source.choice([0, 0, 1, 2, 4]))],
+        "tape": [source.randrange(1000000) for _ in range(source.choice([0, 1, 3, 12]))],
+        "rule": source.choice([None, some_rule(source, letters)]),
+    }
+    named.update(wanted)
+    return Ask(row(20), source.randint(1, 30), **named)
