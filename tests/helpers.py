@@ -66,6 +66,8 @@ def kinds(value):
         return type(value).__name__, [kinds(part) for part in value]
     if isinstance(value, dict):
         return "dict", [(kinds(key), kinds(value[key])) for key in value]
+    if isinstance(value, (Net, Ask, Rule)):
+        return type(value).__name__, kinds(vars(value))
     return type(value).__name__, value
 
 
@@ -166,3 +168,37 @@ def some_ask(source, letters, **wanted):
     }
     named.update(wanted)
     return Ask(row(20), source.randint(1, 30), **named)
+
+
+def chosen(weights, text, tape, rule):
+    """The choice, written down once more from the document."""
+    counted = list(weights)
+    for letter in range(len(weights)):
+        if rule is not None and not rule.lets(text, letter):
+            counted[letter] = 0
+    if not any(counted):
+        return None
+    if not tape:
+        return max(range(len(counted)), key=lambda letter: (counted[letter], -letter))
+    rest = tape[len(text) % len(tape)] % sum(counted)
+    return min(letter for letter in range(len(counted)) if sum(counted[:letter + 1]) > rest)
+
+
+def some_row(number):
+    """A row, of the kind that a net with one layer gives, that is told from others by this number."""
+    return (((number, 1), (2, number)),), (number + 1, 3)
+
+
+def state_of(store):
+    """All that a store tells of itself."""
+    blocks = range(store.many)
+    rows = tuple(store.rows(block) if store.holders(block) else None for block in blocks)
+    return store.many, store.size, store.free, tuple(store.holders(block) for block in blocks), rows
+
+
+def full_block(store, numbers):
+    """A block that is taken and filled with the rows of these numbers."""
+    block = store.take()
+    for number in numbers:
+        store.put_row(block, some_row(number))
+    return block

@@ -5,7 +5,7 @@ import random
 from servedalone.asks import Ask
 from servedalone.errors import InvalidNumber
 from servedalone.rules import Rule
-from tests.helpers import Case, no_integers, some_rule, spoil, wrong_numbers
+from tests.helpers import Case, chosen, no_integers, some_rule, spoil, wrong_numbers
 
 LETS_0_AND_2 = Rule(0, ((0, None, 0, None),))
 LETS_NONE = Rule(0, ((None, None, None, None),))
@@ -122,17 +122,3 @@ class Choice(Case):
             ask = Ask((0,), 3, tape=tape, rule=rule)
             found = self.assert_keeps(ask.choice, weights, text)
             self.assert_same(found, chosen(weights, text, tape, rule))
-
-
-def chosen(weights, text, tape, rule):
-    """The choice, written down once more from the document."""
-    counted = list(weights)
-    for letter in range(len(weights)):
-        if rule is not None and not rule.lets(text, letter):
-            counted[letter] = 0
-    if not any(counted):
-        return None
-    if not tape:
-        return max(range(len(counted)), key=lambda letter: (counted[letter], -letter))
-    rest = tape[len(text) % len(tape)] % sum(counted)
-    return min(letter for letter in range(len(counted)) if sum(counted[:letter + 1]) > rest)

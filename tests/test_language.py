@@ -46,6 +46,27 @@ INTERFACE = {
             "__eq__": "self, other",
         },
     },
+    "plain": {"rows_of": "net, letters", "weights_behind": "net, letters", "written": "net, ask, *, begun=()"},
+    "stores": {
+        "Store": {
+            "__init__": "self, many, size", "take": "self", "hold": "self, block", "release": "self, block",
+            "put_row": "self, block, row", "shorten": "self, block, many", "rows": "self, block",
+            "holders": "self, block", "free": "self",
+        },
+    },
+    "tables": {
+        "Table": {
+            "__init__": "self, store", "rows": "self", "put_row": "self, row", "take_over": "self, block",
+            "exchange_last": "self, block", "cut": "self, many", "fork": "self",
+        },
+    },
+    "trees": {
+        "Tree": {
+            "__init__": "self, store", "known": "self, letters", "put": "self, path, block", "drop": "self",
+            "__len__": "self", "__iter__": "self",
+        },
+    },
+    "streams": {"held_back": "stops, text"},
 }
 
 
