@@ -19,14 +19,14 @@ class Ask:
 
     def choice(self, weights, text):
         """The letter that is written after this text; None if none may be."""
-        counted = self._counted(weights, text)
+        counted = self.counted(weights, text)
         if max(counted) == 0:
             return None
         if len(self.tape) == 0:
             return greatest(counted)
         return by_number(counted, self.tape[len(text) % len(self.tape)])
 
-    def _counted(self, weights, text):
+    def counted(self, weights, text):
         """The weights, but 0 for letters that the rule does not let after this text."""
         if self.rule is None:
             return weights

@@ -1,4 +1,4 @@
-"""What counts as an integer."""
+"""What counts as an integer, and how many blocks rows need."""
 
 
 def is_integer(value):
@@ -9,3 +9,8 @@ def is_integer(value):
 def is_from(value, low, high):
     """Whether the value is an integer from low to high."""
     return is_integer(value) and low <= value <= high
+
+
+def blocks_for(many, size):
+    """How many blocks of this size so many rows need."""
+    return (many + size - 1) // size

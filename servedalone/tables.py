@@ -1,6 +1,6 @@
 """Tables: rows one after the other in blocks of a store, which tables may share."""
 
-from servedalone.basics import is_from
+from servedalone.basics import blocks_for, is_from
 from servedalone.errors import InvalidNumber
 
 
@@ -19,6 +19,12 @@ class Table:
             found.extend(self._store.rows(block))
         # The last block may have rows more, left by a cut or put by others.
         return tuple(found[:self.length])
+
+    def has_room(self):
+        """Whether a row can be put without a block becoming free before."""
+        if self._store.free > 0:
+            return True
+        return self.length % self._store.size > 0 and self._store.holders(self.blocks[-1]) == 1
 
     def put_row(self, row):
         """Puts a row after the table's rows."""
@@ -60,7 +66,7 @@ class Table:
         """Only the first many rows belong to the table; blocks without such rows are released."""
         if not is_from(many, 0, self.length):
             raise InvalidNumber(many)
-        stay = (many + self._store.size - 1) // self._store.size
+        stay = blocks_for(many, self._store.size)
         for block in reversed(self.blocks[stay:]):
             self._store.release(block)
         self.blocks = self.blocks[:stay]

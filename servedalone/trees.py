@@ -17,6 +17,10 @@ class Tree:
         self._use(paths)
         return tuple([self._blocks[path] for path in paths])
 
+    def block_at(self, path):
+        """The block under this path of the tree; looking so is no use."""
+        return self._blocks[path]
+
     def put(self, path, block):
         """Puts the block under a new path that has a place; the block under the path then, or this one."""
         path = tuple(path)

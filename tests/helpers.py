@@ -6,14 +6,24 @@ import unittest
 
 from servedalone import errors
 from servedalone.asks import Ask
+from servedalone.houses import House
 from servedalone.nets import Net
 from servedalone.rules import Rule
+from servedalone.shares import Share
 
 PRIMES = [number for number in range(2, 98) if all(number % less for less in range(2, number))]
 GREAT = 10 ** 399
 OWN_ERRORS = (
     errors.InvalidNumber, errors.InvalidLetter, errors.NoRoom, errors.NotHeld,
     errors.NotAlone, errors.NoRequest, errors.NoHouse, errors.TooLarge,
+)
+
+# Behind any letters the weights are 1, 2, 3, 4: the end is never the greatest.
+EVEN = (5, ((1,), (1,), (1,), (1,)), (0,), (), ((0,), (1,), (2,), (3,)), 0)
+# The letter behind letter a is a + 1 (behind 3 it is 0, the end), whatever came before.
+COUNTING = (
+    2, ((1, 0, 0, 0), (0, 1, 0, 0), (0, 0, 1, 0), (0, 0, 0, 1)), (0, 0, 0, 0), (),
+    ((0, 0, 0, 1), (1, 0, 0, 0), (0, 1, 0, 0), (0, 0, 1, 0)), 0,
 )
 
 
@@ -66,8 +76,10 @@ def kinds(value):
         return type(value).__name__, [kinds(part) for part in value]
     if isinstance(value, dict):
         return "dict", [(kinds(key), kinds(value[key])) for key in value]
-    if isinstance(value, (Net, Ask, Rule)):
+    if isinstance(value, (Net, Ask, Rule, Share)):
         return type(value).__name__, kinds(vars(value))
+    if isinstance(value, House):
+        return type(value).__name__, kinds(whole_state(value))
     return type(value).__name__, value
 
 
@@ -184,6 +196,24 @@ def chosen(weights, text, tape, rule):
     return min(letter for letter in range(len(counted)) if sum(counted[:letter + 1]) > rest)
 
 
+def alone(parts, ask, begun=()):
+    """What is written for an ask, reckoned from nothing at each letter, from the document's words."""
+    text = tuple(begun)
+    while True:
+        weights = reckoned_rows(parts, ask.prompt + text)[-1][1]
+        letter = chosen(weights, text, ask.tape, ask.rule)
+        if letter is None:
+            return text, "stuck"
+        if letter == parts[-1]:
+            return text, "end"
+        text += (letter,)
+        ended = [len(stop) for stop in ask.stops if len(stop) <= len(text) and text[-len(stop):] == stop]
+        if ended:
+            return text[:-max(ended)], "stop"
+        if len(text) == ask.most:
+            return text, "most"
+
+
 def some_row(number):
     """A row, of the kind that a net with one layer gives, that is told from others by this number."""
     return (((number, 1), (2, number)),), (number + 1, 3)
@@ -202,3 +232,42 @@ def full_block(store, numbers):
     for number in numbers:
         store.put_row(block, some_row(number))
     return block
+
+
+def all_rows(house):
+    """The rows of each block in the house's store, () for a free one."""
+    store = house.store
+    return tuple(store.rows(block) if store.holders(block) else () for block in range(store.many))
+
+
+def seen(house):
+    """All that a house tells of its requests and its memory, but for the rows."""
+    requests = tuple((
+        house.text(ticket), house.word(ticket), house.blocks_of(ticket), house.length_of(ticket),
+        house.is_out(ticket), house.delivered(ticket), house.sendable(ticket),
+    ) for ticket in range(len(house.log())))
+    held = tuple(house.store.holders(block) for block in range(house.store.many))
+    return requests, house.going(), house.reckoned, held, tuple(house.tree)
+
+
+def dropped(house):
+    """The paths in the order in which drop takes them, at first as the house is, then without its requests.
+
+    It is a copy of the house that they are dropped from.
+    """
+    house = copy.deepcopy(house)
+    gone = []
+    for _ in range(2):
+        before = list(house.tree)
+        while house.tree.drop():
+            gone.extend(path for path in before if path not in list(house.tree))
+            before = list(house.tree)
+        gone.append("cancelled")
+        for ticket in house.going():
+            house.cancel(ticket)
+    return gone
+
+
+def whole_state(house):
+    """All of a house, the rows and the order of the last uses too."""
+    return seen(house), all_rows(house), dropped(house), house.log()

@@ -15,6 +15,8 @@ BUILTINS = set("""
 METHODS_LEFT_OUT = {"__hash__", "__getattr__", "__setattr__", "__new__", "__next__", "__del__", "__call__"}
 SUMS_OF_LISTS = {"any", "all", "min", "max", "sum", "sorted"}
 
+LIBRARY = {"math": {"gcd", "lcm", "isqrt", "comb", "perm", "factorial"}}
+
 # For each file, what the interface lists: functions with their parameters, classes with their methods.
 INTERFACE = {
     "errors": {
@@ -67,6 +69,39 @@ INTERFACE = {
         },
     },
     "streams": {"held_back": "stops, text"},
+    "houses": {
+        "House": {
+            "__init__": "self, net, many, size", "come_back": "cls, net, many, size, log", "reckoned": "self",
+            "ask": "self, ask", "word": "self, ticket", "text": "self, ticket", "blocks_of": "self, ticket",
+            "length_of": "self, ticket", "going": "self", "step": "self, plan", "put_off": "self, ticket",
+            "swap_out": "self, ticket", "swap_in": "self, ticket", "is_out": "self, ticket",
+            "fork": "self, ticket, tape", "cancel": "self, ticket", "guess": "self, ticket, guesses",
+            "sendable": "self, ticket", "deliver": "self, ticket", "delivered": "self, ticket", "log": "self",
+        },
+    },
+    "guesses": {"lesser_guesses": "house, ticket, lesser, many"},
+    "fleets": {
+        "Fleet": {
+            "__init__": "self, net, shapes", "ask": "self, ask", "place": "self, ticket", "house": "self, house",
+            "move": "self, ticket, to", "fall": "self, house", "deliver": "self, ticket", "word": "self, ticket",
+            "text": "self, ticket",
+        },
+    },
+    "planners": {"needed": "house, ticket", "turn": "house", "serve": "house"},
+    "shares": {
+        "Share": {
+            "__init__": "self, over, under", "__add__": "self, other", "__sub__": "self, other",
+            "__mul__": "self, other", "__eq__": "self, other", "is_below": "self, other",
+        },
+        "lesser_of": "share, other",
+    },
+    "chances": {
+        "next_shares": "net, letters", "text_share": "net, prompt, text",
+        "round_shares": "net, lesser, prompt, many", "told_shares": "net, ask, text",
+    },
+    "beams": {"plain_beams": "net, prompt, wide, most", "beams_in": "house, prompt, wide, most"},
+    "audits": {"holders": "house", "faults": "house", "distinct": "rows", "blocks_together": "rows, size"},
+    "deadlines": {"deadline_plan": "needs"},
 }
 
 
@@ -116,7 +151,9 @@ class Statements(unittest.TestCase):
             needs[path.stem] = set()
             for node in ast.walk(parsed(path)):
                 self.assertNotIsInstance(node, ast.Import, path)
-                if isinstance(node, ast.ImportFrom):
+                if isinstance(node, ast.ImportFrom) and node.module in LIBRARY:
+                    self.assertLessEqual({alias.name for alias in node.names}, LIBRARY[node.module], path)
+                elif isinstance(node, ast.ImportFrom):
                     package, _, name = node.module.partition(".")
                     self.assertEqual((package, node.level), ("servedalone", 0), path)
                     needs[path.stem].add(name)
@@ -176,6 +213,42 @@ class Statements(unittest.TestCase):
                     ast.literal_eval(node.value)
 
 
+class Names(unittest.TestCase):
+    def setUp(self):
+        self.methods, self.properties, self.attributes = set(), set(), set()
+        for path in FILES:
+            for node in ast.walk(parsed(path)):
+                if isinstance(node, ast.ClassDef):
+                    for part in node.body:
+                        if isinstance(part, ast.FunctionDef):
+                            marks = [getattr(mark, "id", None) for mark in part.decorator_list]
+                            (self.properties if "property" in marks else self.methods).add(part.name)
+                if isinstance(node, ast.Attribute) and isinstance(node.ctx, ast.Store):
+                    self.attributes.add(node.attr)
+                    self.assertIsInstance(node.value, ast.Name, (path, node.lineno))
+
+    def test_a_name_is_a_method_or_a_property_or_an_attribute(self):
+        self.assertEqual(self.properties & (self.methods | self.attributes), set())
+        # An error keeps the house that is none, and a fleet gives a house.
+        self.assertEqual(self.methods & self.attributes, {"house"})
+
+    def test_no_name_is_that_of_a_method_of_builtin_values(self):
+        builtin = {name for kind in (int, str, bytes, list, tuple, dict, set) for name in dir(kind)}
+        own = self.methods | self.properties | self.attributes
+        self.assertEqual({name for name in own & builtin if not name.startswith("__")}, set())
+
+    def test_what_is_imported_keeps_its_meaning(self):
+        for path in FILES:
+            nodes = list(ast.walk(parsed(path)))
+            fixed = {alias.name for node in nodes if isinstance(node, ast.ImportFrom) for alias in node.names}
+            fixed |= {node.name for node in nodes if isinstance(node, ast.ClassDef)}
+            for node in nodes:
+                if isinstance(node, ast.Name) and isinstance(node.ctx, ast.Store):
+                    self.assertNotIn(node.id, fixed, (path, node.lineno))
+                if isinstance(node, ast.arg):
+                    self.assertNotIn(node.arg, fixed, (path, node.lineno))
+
+
 class Interface(unittest.TestCase):
     def test_functions_and_classes_stand_in_their_files(self):
         for file, parts in INTERFACE.items():
@@ -186,7 +259,11 @@ class Interface(unittest.TestCase):
                     self.assert_parameters(getattr(module, name), told)
                 for method, parameters in (told.items() if isinstance(told, dict) else ()):
                     found = vars(getattr(module, name))[method]
-                    self.assert_parameters(found.fget if isinstance(found, property) else found, parameters)
+                    if isinstance(found, property):
+                        found = found.fget
+                    if isinstance(found, classmethod):
+                        found = found.__func__
+                    self.assert_parameters(found, parameters)
 
     def assert_parameters(self, function, wanted):
         self.assertEqual(str(inspect.signature(function)), "(" + wanted + ")", function)

@@ -8,34 +8,9 @@ from servedalone.nets import Net
 from servedalone.plain import rows_of, weights_behind, written
 from servedalone.rules import Rule
 from tests.helpers import (
-    Case, as_lists, chosen, no_integers, parts_of_net, reckoned_rows, some_ask, some_net, spoil, wrong_numbers,
+    COUNTING, EVEN, Case, alone, as_lists, no_integers, parts_of_net, reckoned_rows, some_ask, some_net, spoil,
+    wrong_numbers,
 )
-
-# Behind any letters the weights are 1, 2, 3, 4: the end is never the greatest.
-EVEN = (5, ((1,), (1,), (1,), (1,)), (0,), (), ((0,), (1,), (2,), (3,)), 0)
-# The letter behind letter a is a + 1 (behind 3 it is 0, the end), whatever came before.
-COUNTING = (
-    2, ((1, 0, 0, 0), (0, 1, 0, 0), (0, 0, 1, 0), (0, 0, 0, 1)), (0, 0, 0, 0), (),
-    ((0, 0, 0, 1), (1, 0, 0, 0), (0, 1, 0, 0), (0, 0, 1, 0)), 0,
-)
-
-
-def alone(parts, ask, begun=()):
-    """What is written for an ask, reckoned from nothing at each letter, from the document's words."""
-    text = tuple(begun)
-    while True:
-        weights = reckoned_rows(parts, ask.prompt + text)[-1][1]
-        letter = chosen(weights, text, ask.tape, ask.rule)
-        if letter is None:
-            return text, "stuck"
-        if letter == parts[-1]:
-            return text, "end"
-        text += (letter,)
-        ended = [len(stop) for stop in ask.stops if len(stop) <= len(text) and text[-len(stop):] == stop]
-        if ended:
-            return text[:-max(ended)], "stop"
-        if len(text) == ask.most:
-            return text, "most"
 
 
 class RowsOf(Case):
