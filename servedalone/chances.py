@@ -41,15 +41,21 @@ def round_shares(net, lesser, prompt, many):
     accepted = [((), Share(1, 1), rows_of(net, prompt), rows_of(lesser, prompt))]
     found = []
     for _ in range(many):
-        further = []
         for draft in accepted:
             found.extend(drawn_instead(draft))
-            further.extend(accepted_behind(net, lesser, draft))
-        accepted = further
+        accepted = all_accepted_behind(net, lesser, accepted)
     for row, share, rows, _ in accepted:
         for letter, part in enumerate(shares_of(rows[-1][1])):
             found.append((row + (letter,), share * part))
     return tuple(sorted(found, key=lambda pair: pair[0]))
+
+
+def all_accepted_behind(net, lesser, drafts):
+    """What accepted_behind tells of each of these drafts."""
+    found = []
+    for draft in drafts:
+        found.extend(accepted_behind(net, lesser, draft))
+    return found
 
 
 def accepted_behind(net, lesser, draft):

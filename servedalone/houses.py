@@ -150,12 +150,12 @@ class House:
         request = self.request(ticket)
         guesses = tuple(guesses)
         check_letters(self.net, guesses)
-        if not request.is_inside() or not request.lacks_last():
+        if not request.takes_guesses():
             return 0
         rows = list(request.table.rows())
         for letter in request.whole()[-1:] + guesses:
             rows.append(self.net.row(rows, letter))
-        self._reckoned += len(guesses) + 1
+        self.count_reckoned(len(guesses) + 1)
         return self._go_along(request, guesses, rows[request.table.length:])
 
     def sendable(self, ticket):
@@ -196,6 +196,10 @@ class House:
         request.sent = len(request.written)
         request.end_with("cancelled")
 
+    def count_reckoned(self, many):
+        """So many rows more were reckoned."""
+        self._reckoned += many
+
     def _advance_often(self, request, many):
         """The request advances so often; whether it ended with that."""
         was_going = request.is_going()
@@ -210,7 +214,7 @@ class House:
             row = self.net.row(request.table.rows(), request.whole()[request.table.length])
             if not self._put_row(request, row):
                 return
-            self._reckoned += 1
+            self.count_reckoned(1)
         if request.table.length == len(request.whole()):
             self._write(request)
 

@@ -44,13 +44,22 @@ def with_heard(x, query, pairs, prime):
     return x
 
 
-def through_layer(layer, x, before, prime):
-    """x behind this layer, and the layer's pair; before are the layer's pairs of the rows before."""
-    query, key, value, first, second = layer
-    pair = (times(key, x, prime), times(value, x, prime))
-    x = with_heard(x, times(query, x, prime), before + [pair], prime)
-    squares = [part * part % prime for part in times(first, x, prime)]
-    return plus(x, times(second, squares, prime), prime), pair
+def pair_of(layer, x, prime):
+    """The layer's pair for this x."""
+    _, key, value, _, _ = layer
+    return times(key, x, prime), times(value, x, prime)
+
+
+def squared(vector, prime):
+    """The vector of the squares of the vector's numbers."""
+    return tuple([part * part % prime for part in vector])
+
+
+def behind_layer(layer, x, pairs, prime):
+    """x behind this layer; pairs are those of the layer for the letters before and for this one."""
+    query, _, _, first, second = layer
+    x = with_heard(x, times(query, x, prime), pairs, prime)
+    return plus(x, times(second, squared(times(first, x, prime), prime), prime), prime)
 
 
 class Net:
@@ -71,18 +80,39 @@ class Net:
         """How many letters the net has."""
         return len(self._embed)
 
+    @property
+    def width(self):
+        """How many numbers each vector has."""
+        return len(self._shift)
+
+    @property
+    def depth(self):
+        """How many layers the net has."""
+        return len(self._layers)
+
     def row(self, rows, letter):
         """The row of a letter that comes after letters with these rows."""
         if not is_from(letter, 0, self.letters - 1):
             raise InvalidLetter(letter)
-        x = plus(self._embed[letter], scaled(len(rows), self._shift, self.prime), self.prime)
+        x = self.vector_of(letter, len(rows))
         pairs = []
         for place, layer in enumerate(self._layers):
-            before = [earlier[0][place] for earlier in rows]
-            x, pair = through_layer(layer, x, before, self.prime)
+            pair = pair_of(layer, x, self.prime)
+            x = behind_layer(layer, x, [earlier[0][place] for earlier in rows] + [pair], self.prime)
             pairs.append(pair)
-        weights = [number + 1 for number in times(self._out, x, self.prime)]
-        return tuple(pairs), tuple(weights)
+        return tuple(pairs), self.weights_of(x)
+
+    def vector_of(self, letter, many):
+        """The vector with which a letter that comes after so many others goes into the layers."""
+        return plus(self._embed[letter], scaled(many, self._shift, self.prime), self.prime)
+
+    def layer(self, place):
+        """The five matrices of the layer at this place."""
+        return self._layers[place]
+
+    def weights_of(self, x):
+        """The weights of the letters behind the layers."""
+        return tuple([number + 1 for number in times(self._out, x, self.prime)])
 
 
 def greatest(weights):

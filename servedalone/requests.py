@@ -33,6 +33,10 @@ class Request:
         """Whether the table lacks only the last of the letters."""
         return self.table.length == len(self.whole()) - 1
 
+    def takes_guesses(self):
+        """Whether letters that somebody guessed can be gone along now."""
+        return self.is_inside() and self.lacks_last()
+
     def reckoned_rows(self):
         """The rows that were reckoned for the request: those aside, or those of its table."""
         if self.is_aside():
@@ -44,6 +48,16 @@ class Request:
         self.ended = word
         self.aside = None
         self.table.cut(0)
+
+    def state(self):
+        """How far the request has come: its text, its word, its rows, and what was delivered."""
+        table = self.table
+        return self.written, self.begun, self.ended, table.blocks, table.length, self.aside, self.sent
+
+    def set_state(self, state):
+        """The request has come as far as this state tells; its table holds the blocks."""
+        self.written, self.begun, self.ended, blocks, length, self.aside, self.sent = state
+        self.table.set_blocks(blocks, length)
 
     def told(self):
         """What a log tells of the request."""

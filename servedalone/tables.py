@@ -75,8 +75,12 @@ class Table:
     def fork(self):
         """Another table with the same blocks and the same length."""
         other = Table(self._store)
-        for block in self.blocks:
-            self._store.hold(block)
-        other.blocks = self.blocks
-        other.length = self.length
+        other.set_blocks(self.blocks, self.length)
         return other
+
+    def set_blocks(self, blocks, length):
+        """The empty table gets these blocks, each held once more, and this length."""
+        for block in blocks:
+            self._store.hold(block)
+        self.blocks = blocks
+        self.length = length

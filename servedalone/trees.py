@@ -21,10 +21,14 @@ class Tree:
         """The block under this path of the tree; looking so is no use."""
         return self._blocks[path]
 
+    def lacks(self, path):
+        """Whether the path is none of the tree, but would have its place there; looking so is no use."""
+        return path not in self._blocks and self._has_place(path)
+
     def put(self, path, block):
         """Puts the block under a new path that has a place; the block under the path then, or this one."""
         path = tuple(path)
-        if path not in self._blocks and self._has_place(path):
+        if self.lacks(path):
             self._store.hold(block)
             self._blocks[path] = block
             self._sort_paths()
@@ -42,6 +46,12 @@ class Tree:
         del self._used[oldest]
         self._sort_paths()
         return True
+
+    def by_last_use(self):
+        """The pairs of a path and its block in the order in which drop would take them if only the tree held them."""
+        # Who uses a path uses its beginnings, too: they are never used earlier, and go after it.
+        paths = sorted(self._blocks, key=lambda path: (self._used[path], -len(path)))
+        return tuple([(path, self._blocks[path]) for path in paths])
 
     def __len__(self):
         return len(self._paths)

@@ -3,16 +3,20 @@
 import random
 
 from servedalone.asks import Ask
+from servedalone.deeds import do, picture
+from servedalone.errors import InvalidLetter, InvalidNumber, NoRequest
 from servedalone.houses import House
 from servedalone.nets import Net
 from servedalone.planners import serve, turn
-from tests.helpers import all_rows, chosen, dropped, parts_of_net, seen, some_rule
+from tests.helpers import all_rows, as_lists, chosen, dropped, parts_of_net, seen, some_rule, wrong_numbers
 from tests.slow import SlowHouse
 
 CALLS = (
     ["ask"] * 4 + ["step"] * 12 + ["guess"] * 4 + ["swap_in"] * 3 + ["swap_out"] * 2 + ["put_off", "fork"] * 2
     + ["deliver"] * 2 + ["cancel", "drop", "known", "turn"]
 )
+
+DEEDS = [name for name in CALLS if name not in ("drop", "known", "turn")]
 
 
 def some_parts(source):
@@ -140,3 +144,50 @@ class Pair:
             self.case.assertEqual(self.house.log(), self.slow.log())
             self.house = House.come_back(self.net, *self.shape, self.house.log())
             self.slow = self.slow.come_back()
+
+
+class Deeds(Pair):
+    """The two houses again; what is done to them is done as deeds, which are kept."""
+
+    def __init__(self, case, seed, shape=None):
+        super().__init__(case, seed, shape)
+        self.deeds = []
+
+    def do(self, name, *arguments):
+        deed = self.source.choice([(name, *arguments), (name, *as_lists(arguments)), [name, *arguments]])
+        self.deeds.append(deed)
+        found = do(self.house, deed)
+        self.case.assert_same(found, getattr(self.slow, name)(*arguments))
+        return found
+
+    def check_all(self):
+        super().check_all()
+        self.case.assert_same(picture(self.house), self.slow.picture())
+
+    def wrong_deeds(self):
+        """Each kind of deed with something wrong in it, and the error that it raises."""
+        wrong = self.source.choice(wrong_numbers(0, self.letters - 1))
+        ticket = self.source.choice(wrong_numbers(0, len(self.slow.requests) - 1))
+        many = self.source.choice(wrong_numbers(0, 60))
+        right = self.source.randrange(len(self.slow.requests))
+        found = [((name, ticket), NoRequest, {"ticket": ticket}) for name in (
+            "put_off", "swap_out", "swap_in", "cancel", "deliver",
+        )]
+        return found + [
+            (("ask", Ask((0, wrong), 3)), InvalidLetter, {"letter": wrong}),
+            (["ask", Ask((0,), 3, stops=((0,), (wrong, -1)))], InvalidLetter, {"letter": wrong}),
+            (("step", ((right, many), (ticket, 1))), NoRequest, {"ticket": ticket}),
+            (("step", [[right, 3], [right, many]]), InvalidNumber, {"number": many}),
+            (("fork", ticket, (1, 2)), NoRequest, {"ticket": ticket}),
+            (("guess", ticket, (wrong,)), NoRequest, {"ticket": ticket}),
+            (("guess", right, [0, wrong]), InvalidLetter, {"letter": wrong}),
+        ]
+
+    def one_deed(self, may_fail=True):
+        """Some deed; one of those that raise an error is done to the house alone."""
+        if may_fail and self.slow.requests and self.source.random() < 0.15:
+            deed, error, values = self.source.choice(self.wrong_deeds())
+            self.case.assert_fails(error, values, do, self.house, deed)
+            self.deeds.append(deed)
+        else:
+            self.one_call(DEEDS)

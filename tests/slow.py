@@ -279,6 +279,57 @@ class SlowHouse:
             house.requests.append(request)
         return house
 
+    # Shelves and pictures.
+
+    def write_paths(self):
+        lines = ""
+        for path, block in sorted(self.paths):
+            rows = []
+            for pairs, weights in self.filled[block]:
+                numbers = [number for key, value in pairs for number in key + value]
+                rows.append(" ".join(str(number) for number in numbers + list(weights)))
+            lines += "%s:%s\n" % (" ".join(str(letter) for letter in path), ";".join(rows))
+        return lines
+
+    def warm(self, shelf):
+        many = 0
+        while "\n" in shelf:
+            line, _, shelf = shelf.partition("\n")
+            path = tuple(int(letter) for letter in line.partition(":")[0].split())
+            begun = path[:len(path) - self.size]
+            if path in dict(self.paths) or (begun and begun not in dict(self.paths)):
+                continue
+            block = self.take()
+            if block is not None:
+                ends = range(len(begun) + 1, len(path) + 1)
+                self.filled[block] = [self.row_of(path[:end]) for end in ends]
+                self.tree_put(path, block)
+                many += 1
+        return many
+
+    def by_last_use(self):
+        """The pairs of the tree, one after the other, that nothing goes on from and that were used longest ago."""
+        left, found = list(self.paths), []
+        while left:
+            for path, block in left:
+                if not [other for other, _ in left if len(other) > len(path) and other[:len(path)] == path]:
+                    found.append((path, block))
+                    left.remove((path, block))
+                    break
+        return tuple(found)
+
+    def picture(self):
+        requests = []
+        for request in self.requests:
+            rule = (None, None) if request.rule is None else (request.rule.start, request.rule.steps)
+            aside = None if request.aside is None else tuple(request.aside)
+            requests.append((
+                request.prompt, request.most, request.stops, request.tape, *rule, request.text, len(request.begun),
+                request.word, tuple(request.blocks), request.length, aside, request.delivered,
+            ))
+        held = tuple(self.holders(block) for block in range(self.many))
+        return self.all_rows(), held, tuple(requests), self.by_last_use()
+
     # Planning.
 
     def needed(self, ticket):

@@ -6,12 +6,13 @@ from fractions import Fraction
 from servedalone.asks import Ask
 from servedalone.audits import faults, holders
 from servedalone.beams import beams_in, plain_beams
+from servedalone.deeds import picture
 from servedalone.errors import InvalidLetter, NoRoom
 from servedalone.houses import House
 from servedalone.nets import Net
 from servedalone.shares import Share
 from tests.helpers import COUNTING, EVEN, Case, as_lists, parts_of_net, reckoned_rows, whole_state, wrong_numbers
-from tests.pairs import CALLS, Pair
+from tests.pairs import CALLS, Deeds, Pair
 
 # Behind any letters all four have the same share; 2 is the end.
 LEVEL = (5, ((1,),) * 4, (0,), (), ((0,),) * 4, 2)
@@ -183,3 +184,53 @@ class BeamsIn(BeamCase):
                 self.assert_fails(InvalidLetter, {"letter": letter}, beams_in, house, prompt, 1, 8)
         self.assert_fails(NoRoom, {"many": 18}, beams_in, house, (1,), 1, 8)
         self.assertEqual(whole_state(house), before)
+
+
+class AroundAPicture(BeamCase):
+    """A house to which deeds were done is the same behind beams as before, whatever they give."""
+
+    def around(self, house, wanted, call, *arguments):
+        """The call does as wanted, and the house stays as it was."""
+        before = picture(house), house.log(), house.reckoned, holders(house), house.tree.by_last_use()
+        wanted(call, *arguments)
+        self.assert_same(picture(house), before[0])
+        found = picture(house), house.log(), house.reckoned, holders(house), house.tree.by_last_use()
+        self.assertEqual(found, before)
+        self.assertEqual(faults(house), ())
+
+    def test_in_a_house_to_which_deeds_were_done(self):
+        done = {}
+        for seed in range(100):
+            pair = Deeds(self, seed, shape=(20 + seed % 41, 1 + seed % 8))
+            for _ in range(25):
+                pair.one_deed()
+            source, house = pair.source, pair.house
+            prompt = tuple(source.randrange(pair.letters) for _ in range(source.randint(1, 4)))
+            wide, most = source.randint(1, 4), source.randint(1, 6)
+            wanted = all_grown(pair.parts, prompt, wide, most)
+
+            def is_right(call, *arguments):
+                self.assert_beams(call(*arguments), wanted)
+
+            self.around(house, is_right, plain_beams, house.net, prompt, wide, most)
+            many = 2 * wide * len(range(0, len(prompt) + most, house.store.size))
+            if house.store.free >= many:
+                self.around(house, is_right, beams_in, house, prompt, wide, most)
+                done[seed] = True
+            else:
+                def has_no_room(call, *arguments):
+                    self.assert_fails(NoRoom, {"many": many}, call, *arguments)
+
+                self.around(house, has_no_room, beams_in, house, prompt, wide, most)
+            letter = source.choice(wrong_numbers(0, pair.letters - 1))
+
+            def is_refused(call, *arguments):
+                self.assert_fails(InvalidLetter, {"letter": letter}, call, *arguments)
+
+            self.around(house, is_refused, beams_in, house, prompt + (letter,), wide, most)
+            # The slow house had no beams, and goes on just so.
+            for _ in range(10):
+                pair.one_deed()
+                pair.check()
+            pair.check_all()
+        self.assertTrue(20 < len(done) < 90, len(done))

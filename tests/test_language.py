@@ -102,11 +102,78 @@ INTERFACE = {
     "beams": {"plain_beams": "net, prompt, wide, most", "beams_in": "house, prompt, wide, most"},
     "audits": {"holders": "house", "faults": "house", "distinct": "rows", "blocks_together": "rows, size"},
     "deadlines": {"deadline_plan": "needs"},
+    "batches": {"rows_in_batch": "net, jobs"},
+    "crews": {
+        "Crew": {
+            "__init__": "self, net, many", "begin": "self, rows, letter", "waiting": "self",
+            "deliver": "self, number", "double": "self, number", "lose": "self, number", "row": "self",
+        },
+    },
+    "shelves": {"write_paths": "house", "warm": "house, shelf"},
+    "deeds": {"do": "house, deed", "picture": "house", "redo": "net, many, size, deeds"},
+    "fairness": {
+        "Fair": {
+            "__init__": "self, weights", "choose": "self, members", "plan": "self, members, budget", "tally": "self",
+        },
+    },
+    "journals": {"write_deeds": "deeds", "read_deeds": "text"},
+    "forests": {"guess_best": "house, ticket, forest"},
+    "snapshots": {"snapshot": "house", "restore": "net, saved"},
+    "wires": {
+        "packets": "house, ticket, size",
+        "Receiver": {"__init__": "self", "take": "self, packet", "text": "self", "is_whole": "self"},
+    },
 }
+# Methods that change the list or dict that they are called of.
+CHANGING = {"append", "clear", "extend", "insert", "pop", "remove", "reverse", "setdefault", "update", "sort"}
 
 
 def parsed(path):
     return ast.parse(path.read_text())
+
+
+def same_lists(function):
+    """For each name in the function, the names that may be the same list, since one is assigned to the other."""
+    same = {}
+    for node in ast.walk(function):
+        if isinstance(node, ast.Assign):
+            values = [node.value]
+            if isinstance(node.value, (ast.IfExp, ast.BoolOp)):
+                values = [part for part in ast.walk(node.value) if isinstance(part, (ast.Name, ast.Attribute))]
+            names = {ast.unparse(part) for part in node.targets + values
+                     if isinstance(part, (ast.Name, ast.Attribute))}
+            joined = names.union(*[same.get(name, set()) for name in names])
+            same.update({name: joined for name in joined})
+    return same
+
+
+def gone_over(loop):
+    """The names and attributes that a loop or a comprehension goes over, straight or through enumerate and the like."""
+    heads = [loop.iter] if isinstance(loop, ast.For) else [part.iter for part in loop.generators]
+    found = set()
+    while heads:
+        head = heads.pop()
+        if isinstance(head, ast.Call) and isinstance(head.func, ast.Name):
+            # What list, sorted and own functions give is another list.
+            heads += head.args if head.func.id in ("enumerate", "zip", "reversed") else []
+        elif isinstance(head, ast.Call):
+            heads += [head.func.value] if head.func.attr in ("items", "keys", "values") else []
+        elif isinstance(head, (ast.Name, ast.Attribute)):
+            found.add(ast.unparse(head))
+    return found
+
+
+def changed_in(loop):
+    """The names and attributes of lists and dicts that are changed in the loop."""
+    found = set()
+    for node in ast.walk(loop):
+        if isinstance(node, ast.Call) and isinstance(node.func, ast.Attribute) and node.func.attr in CHANGING:
+            found.add(ast.unparse(node.func.value))
+        elif isinstance(node, ast.Subscript) and isinstance(node.ctx, (ast.Store, ast.Del)):
+            found.add(ast.unparse(node.value))
+        elif isinstance(node, ast.AugAssign) and isinstance(node.target, (ast.Name, ast.Attribute)):
+            found.add(ast.unparse(node.target))
+    return found
 
 
 class Files(unittest.TestCase):
@@ -175,7 +242,7 @@ class Statements(unittest.TestCase):
     def test_what_is_left_out_of_the_language(self):
         left_out = (
             ast.Global, ast.AsyncFunctionDef, ast.AsyncFor, ast.AsyncWith, ast.Await, ast.Div, ast.MatMult,
-            ast.Yield, ast.YieldFrom, ast.Set, ast.AnnAssign, ast.NamedExpr, ast.Try, ast.With,
+            ast.Yield, ast.YieldFrom, ast.Set, ast.AnnAssign, ast.NamedExpr, ast.With,
         )
         for path, node in self.each():
             self.assertNotIsInstance(node, left_out, (path, getattr(node, "lineno", None)))
@@ -183,6 +250,37 @@ class Statements(unittest.TestCase):
                 self.assertNotIsInstance(node.value, (float, complex, bytes), path)
             if isinstance(node, ast.FunctionDef):
                 self.assertNotIn(node.name, METHODS_LEFT_OUT, path)
+
+    def test_only_errors_of_the_package_are_caught(self):
+        for path, node in self.each():
+            if isinstance(node, ast.Try):
+                self.assertEqual(node.finalbody, [], path)
+                for handler in node.handlers:
+                    self.assertIn(handler.type.id, INTERFACE["errors"], (path, handler.lineno))
+
+    def test_what_a_loop_goes_over_is_not_changed_in_it(self):
+        for path, node in self.each():
+            if isinstance(node, ast.FunctionDef):
+                same = same_lists(node)
+                for loop in ast.walk(node):
+                    if isinstance(loop, (ast.For, ast.ListComp, ast.DictComp)):
+                        over = set().union(*[same.get(name, {name}) for name in gone_over(loop)])
+                        self.assertEqual(over & changed_in(loop), set(), (path, loop.lineno))
+
+    def test_the_check_of_loops_sees_other_names_of_a_list(self):
+        text = """
+def f(xs):
+    now = [xs]
+    for _ in xs:
+        more = []
+        for x in now:
+            more.extend(x)
+        now = more
+"""
+        function = ast.parse(text).body[0]
+        loop = function.body[1].body[1]
+        self.assertEqual((gone_over(loop), changed_in(loop)), ({"now"}, {"more"}))
+        self.assertEqual(same_lists(function)["now"], {"now", "more"})
 
     def test_sums_take_lists(self):
         for path, node in self.each():
