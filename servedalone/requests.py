@@ -1,5 +1,7 @@
 """Requests: how far what an asker wants has come in a house."""
 
+from servedalone.nets import fixed_row
+
 
 class Request:
     """An ask in a house: its text so far, its table, and what was delivered of it."""
@@ -56,8 +58,12 @@ class Request:
 
     def set_state(self, state):
         """The request has come as far as this state tells; its table holds the blocks."""
-        self.written, self.begun, self.ended, blocks, length, self.aside, self.sent = state
-        self.table.set_blocks(blocks, length)
+        written, self.begun, self.ended, blocks, length, aside, self.sent = state
+        self.written = tuple(written)
+        self.aside = None
+        if aside is not None:
+            self.aside = tuple([fixed_row(row) for row in aside])
+        self.table.set_blocks(tuple(blocks), length)
 
     def told(self):
         """What a log tells of the request."""

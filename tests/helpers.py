@@ -25,6 +25,8 @@ COUNTING = (
     2, ((1, 0, 0, 0), (0, 1, 0, 0), (0, 0, 1, 0), (0, 0, 0, 1)), (0, 0, 0, 0), (),
     ((0, 0, 0, 1), (1, 0, 0, 0), (0, 1, 0, 0), (0, 0, 1, 0)), 0,
 )
+# The same without an end.
+ROUND = COUNTING[:5] + (None,)
 
 
 def deep_tuple():
@@ -238,6 +240,14 @@ def all_rows(house):
     """The rows of each block in the house's store, () for a free one."""
     store = house.store
     return tuple(store.rows(block) if store.holders(block) else () for block in range(store.many))
+
+
+def writing(ask, many, parts=ROUND):
+    """A house with one request that wrote so many letters behind a prompt of one letter."""
+    house = House(Net(*parts), 40, 2)
+    house.ask(ask)
+    house.step(((0, many),))
+    return house
 
 
 def seen(house):

@@ -10,10 +10,9 @@ from servedalone.houses import House
 from servedalone.nets import Net
 from servedalone.plain import rows_of
 from servedalone.rules import Rule
-from tests.helpers import COUNTING, OWN_ERRORS, Case, as_lists, as_tuples, spoil, whole_state
+from tests.helpers import OWN_ERRORS, ROUND, Case, as_lists, as_tuples, spoil, whole_state
 from tests.pairs import CALLS, Deeds, Pair, some_served
 
-ROUND = COUNTING[:5] + (None,)
 NINE = ("ask", "step", "put_off", "swap_out", "swap_in", "fork", "cancel", "guess", "deliver")
 
 

@@ -9,10 +9,8 @@ from servedalone.forests import guess_best
 from servedalone.houses import House
 from servedalone.nets import Net
 from servedalone.rules import Rule
-from tests.helpers import COUNTING, EVEN, Case, as_lists, chosen, seen, some_net, whole_state, wrong_numbers
+from tests.helpers import COUNTING, EVEN, ROUND, Case, as_lists, chosen, seen, some_net, whole_state, wrong_numbers
 from tests.pairs import CALLS, Deeds
-
-ROUND = COUNTING[:5] + (None,)
 
 
 class CountingNet(Net):
@@ -156,6 +154,13 @@ class ByHand(Case):
             self.assert_same(guess_best(house, 0, forest), 0)
             self.assert_same(guess_best(house, 0, ()), 0)
             self.assertEqual(whole_state(house), before)
+
+    def test_nothing_is_reckoned_either(self):
+        net = CountingNet(*ROUND)
+        house = ready(Ask((0,), 9), net=net)
+        house.swap_out(0)
+        net.rows = []
+        self.assert_same((guess_best(house, 0, ((2, 3), (1,))), net.rows), (0, []))
 
     def test_one_letter_that_was_never_read(self):
         house = House(Net(*ROUND), 40, 2)

@@ -1,15 +1,12 @@
 """[31]: journals."""
 
-import random
-
 from servedalone.asks import Ask
 from servedalone.deeds import picture, redo
 from servedalone.journals import read_deeds, write_deeds
 from servedalone.nets import Net
-from tests.helpers import COUNTING, GREAT, Case, as_lists, as_tuples, kinds, whole_state
+from tests.helpers import GREAT, ROUND, Case, as_lists, as_tuples, kinds, whole_state
 from tests.pairs import Deeds
 
-ROUND = COUNTING[:5] + (None,)
 EXAMPLE = [("step", ((0, 2), (1, 1))), ("deliver", 0)]
 EXAMPLE_TEXT = "(step,((0,2),(1,1)))\n(deliver,0)\n"
 # Every kind of deed, with what may stand in it.

@@ -8,37 +8,29 @@ from servedalone.houses import House
 from servedalone.nets import Net
 from servedalone.rules import Rule
 from tests.helpers import (
-    COUNTING, EVEN, Case, alone, as_lists, kinds, parts_of_net, seen, spoil, whole_state, wrong_numbers,
+    COUNTING, EVEN, ROUND, Case, alone, as_lists, kinds, parts_of_net, seen, spoil, whole_state, writing,
+    wrong_numbers,
 )
 from tests.pairs import CALLS, Pair, some_parts, some_served
 
 ENDLESS = EVEN[:5] + (None,)
-ROUND = COUNTING[:5] + (None,)
-
-
-def made(ask, many, parts=ROUND):
-    """A house with one request that wrote so many letters behind a prompt of one letter."""
-    house = House(Net(*parts), 40, 2)
-    house.ask(ask)
-    house.step(((0, many),))
-    return house
 
 
 class Sendable(Case):
     def test_without_stops(self):
         for many in range(5):
-            house = made(Ask((0,), 9), many)
+            house = writing(Ask((0,), 9), many)
             self.assert_same(house.sendable(0), (1, 2, 3, 0)[:many])
             self.assert_same(house.sendable(ticket=0), house.text(0))
 
     def test_a_stop_that_may_still_come(self):
         ask = Ask((0,), 9, stops=((1, 2, 3, 3), (3, 0, 0), (0, 1, 3)))
-        found = [made(ask, many).sendable(0) for many in range(8)]
+        found = [writing(ask, many).sendable(0) for many in range(8)]
         texts = (1, 2, 3, 0, 1, 2, 3)
         self.assert_same(found, [(), (), (), (), texts[:2], texts[:3], texts[:4], texts[:4]])
 
     def test_a_stop_that_came(self):
-        house = made(Ask((0,), 9, stops=((3, 0), (2, 3, 0, 1))), 4)
+        house = writing(Ask((0,), 9, stops=((3, 0), (2, 3, 0, 1))), 4)
         self.assert_same((house.word(0), house.text(0), house.sendable(0)), ("stop", (1, 2), (1, 2)))
 
     def test_with_a_word_all_is_sent(self):
@@ -47,7 +39,7 @@ class Sendable(Case):
             (ROUND, Ask((0,), 3, stops=stops)), (COUNTING, Ask((0,), 9, stops=stops)),
             (ROUND, Ask((0,), 9, stops=stops, rule=Rule(0, ((None, 0, 0, 1), (None,) * 4)))),
         ):
-            house = made(ask, 2, parts)
+            house = writing(ask, 2, parts)
             self.assert_same(house.sendable(0), (1, 2))
             house.step(((0, 1),))
             wanted = (1, 2, 3) if house.word(0) else (1, 2)
@@ -57,20 +49,20 @@ class Sendable(Case):
             self.assertIn(house.word(0), ("most", "end", "stuck"))
 
     def test_a_cancelled_request(self):
-        house = made(Ask((0,), 9, stops=((3, 3),)), 3)
+        house = writing(Ask((0,), 9, stops=((3, 3),)), 3)
         house.cancel(0)
         self.assert_same((house.text(0), house.sendable(0)), ((1, 2, 3), (1, 2)))
         self.assert_same((house.deliver(0), house.delivered(0)), ((1, 2), 2))
 
     def test_a_request_that_is_out(self):
-        house = made(Ask((0,), 9, stops=((3, 3),)), 3)
+        house = writing(Ask((0,), 9, stops=((3, 3),)), 3)
         house.swap_out(0)
         self.assert_same((house.sendable(0), house.deliver(0)), ((1, 2), (1, 2)))
 
 
 class Deliver(Case):
     def test_again_and_again(self):
-        house = made(Ask((0,), 9, stops=((3, 0, 0),)), 2)
+        house = writing(Ask((0,), 9, stops=((3, 0, 0),)), 2)
         self.assert_same((house.delivered(0), house.deliver(0), house.delivered(0)), (0, (1, 2), 2))
         self.assert_same((house.deliver(ticket=0), house.delivered(ticket=0)), ((), 2))
         house.step(((0, 1),))
@@ -81,7 +73,7 @@ class Deliver(Case):
         self.assert_same((house.deliver(0), house.deliver(0), house.delivered(0)), ((2, 3, 0, 1), (), 9))
 
     def test_it_changes_nothing_else(self):
-        house = made(Ask((0,), 9), 4)
+        house = writing(Ask((0,), 9), 4)
         requests, *others = seen(house)
         house.deliver(0)
         text, *rest = requests[0]
@@ -219,7 +211,7 @@ class ComeBack(Case):
         self.assert_same(back.log(), wanted.log())
 
     def test_the_old_house_stays(self):
-        house = made(Ask((0,), 9), 4)
+        house = writing(Ask((0,), 9), 4)
         log = house.log()
         before = whole_state(house)
         back = House.come_back(house.net, 40, 2, log)
@@ -229,7 +221,7 @@ class ComeBack(Case):
         self.assert_same(log, house.log())
 
     def test_wrong_numbers(self):
-        net, log = Net(*ROUND), made(Ask((0,), 9), 4).log()
+        net, log = Net(*ROUND), writing(Ask((0,), 9), 4).log()
         for number in wrong_numbers(1, 60):
             self.assert_fails(InvalidNumber, {"number": number}, House.come_back, net, number, 9, log)
         for number in wrong_numbers(1, 8):

@@ -207,6 +207,16 @@ class Warm(Case):
         self.assert_same(warm(house, shelf), 0)
         self.assert_same(order(house), [(0, 1), (2,), (0, 2), (0,), (3,)])
 
+    def test_no_layers_up_to_three(self):
+        for layers in range(4):
+            for width in range(1, 5):
+                net = some_net(layers, layers=layers, width=width, letters=4)
+                read_there = read(net, 20, 2, (0, 1, 2, 3), (3, 3))
+                house = House(net, 20, 2)
+                self.assert_same((warm(house, write_paths(read_there)), faults(house)), (3, ()))
+                wanted = [rows_of(net, path)[-2:] for path in ((0, 1), (0, 1, 2, 3), (3, 3))]
+                self.assert_same([house.store.rows(block) for block in range(3)], wanted)
+
     def test_the_rows_of_the_example_are_kept(self):
         rows, line = EXAMPLE
         house = House(some_net(1, layers=1, width=1, letters=3), 5, 2)

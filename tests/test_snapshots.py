@@ -14,10 +14,10 @@ from servedalone.planners import serve
 from servedalone.rules import Rule
 from servedalone.shelves import warm, write_paths
 from servedalone.snapshots import restore, snapshot
-from tests.helpers import COUNTING, OWN_ERRORS, Case, alone, all_rows, dropped, parts_of_net, whole_state
+from tests.helpers import (
+    OWN_ERRORS, ROUND, Case, all_rows, alone, as_lists, dropped, parts_of_net, spoil, whole_state,
+)
 from tests.pairs import CALLS, Deeds, Pair, some_served
-
-ROUND = COUNTING[:5] + (None,)
 
 
 def told(house):
@@ -120,6 +120,16 @@ class ByHand(SnapshotCase):
         house.ask(Ask((0, 1), 9, tape=(4,), stops=((3, 3),)))
         house.step(((0, 3),))
         self.assertEqual(kinds_inside(snapshot(house)) - {int, str, type(None)}, {tuple})
+
+    def test_lists_in_place_of_tuples(self):
+        for seed in range(30):
+            pair = Deeds(self, seed)
+            for _ in range(30):
+                pair.one_deed()
+            saved = as_lists(snapshot(pair.house))
+            other = self.assert_keeps(restore, pair.net, saved)
+            spoil(saved)
+            self.assert_goes_on(pair.house, some_deeds(pair.source, pair.house, pair.letters, 15), other)
 
     def test_last_uses(self):
         house = House(Net(*ROUND), 12, 1)

@@ -1,26 +1,12 @@
 """[32]: packets and receivers."""
 
-import random
-
 from servedalone.asks import Ask
 from servedalone.errors import InvalidNumber, NoRequest
-from servedalone.houses import House
-from servedalone.nets import Net
 from servedalone.rules import Rule
 from servedalone.snapshots import restore, snapshot
 from servedalone.wires import Receiver, packets
-from tests.helpers import COUNTING, Case, alone, as_lists, spoil, whole_state, wrong_numbers
+from tests.helpers import COUNTING, Case, alone, as_lists, spoil, whole_state, writing, wrong_numbers
 from tests.pairs import CALLS, Pair
-
-ROUND = COUNTING[:5] + (None,)
-
-
-def made(ask, many, parts=ROUND):
-    """A house with one request that wrote so many letters behind a prompt of one letter."""
-    house = House(Net(*parts), 40, 2)
-    house.ask(ask)
-    house.step(((0, many),))
-    return house
 
 
 def cut_up(letters, size, last):
@@ -36,7 +22,7 @@ def cut_up(letters, size, last):
 
 class Packets(Case):
     def test_sizes(self):
-        house = made(Ask((0,), 30), 11)
+        house = writing(Ask((0,), 30), 11)
         letters = (1, 2, 3, 0, 1, 2, 3, 0, 1, 2, 3)
         for size in range(1, 9):
             self.assert_same(packets(house, 0, size), cut_up(letters, size, None))
@@ -45,42 +31,42 @@ class Packets(Case):
 
     def test_just_so_many_letters(self):
         for size in range(1, 9):
-            house = made(Ask((0,), size), size)
+            house = writing(Ask((0,), size), size)
             self.assert_same(packets(house, 0, size), ((0, house.text(0), size),))
-            self.assert_same(len(packets(made(Ask((0,), 2 * size), 60), 0, size)), 2)
+            self.assert_same(len(packets(writing(Ask((0,), 2 * size), 60), 0, size)), 2)
 
     def test_no_letters(self):
         for size in (1, 8):
-            self.assert_same(packets(made(Ask((0,), 9), 0), 0, size), ((0, (), None),))
-            self.assert_same(packets(made(Ask((3,), 9), 1, COUNTING), 0, size), ((0, (), 0),))
-            self.assert_same(packets(made(Ask((0,), 9, stops=((1, 2, 3),)), 9), 0, size), ((0, (), 0),))
+            self.assert_same(packets(writing(Ask((0,), 9), 0), 0, size), ((0, (), None),))
+            self.assert_same(packets(writing(Ask((3,), 9), 1, COUNTING), 0, size), ((0, (), 0),))
+            self.assert_same(packets(writing(Ask((0,), 9, stops=((1, 2, 3),)), 9), 0, size), ((0, (), 0),))
             # A stop may still come.
-            self.assert_same(packets(made(Ask((0,), 9, stops=((1, 2, 3),)), 2), 0, size), ((0, (), None),))
+            self.assert_same(packets(writing(Ask((0,), 9, stops=((1, 2, 3),)), 2), 0, size), ((0, (), None),))
 
     def test_stops_that_may_still_come(self):
         ask = Ask((0,), 9, stops=((3, 3), (0, 1, 3)))
         for many, letters in ((2, (1, 2)), (3, (1, 2)), (4, (1, 2, 3)), (5, (1, 2, 3)), (6, (1, 2, 3, 0, 1, 2))):
-            self.assert_same(packets(made(ask, many), 0, 2), cut_up(letters, 2, None))
+            self.assert_same(packets(writing(ask, many), 0, 2), cut_up(letters, 2, None))
 
     def test_words(self):
-        self.assert_same(packets(made(Ask((0,), 3), 9), 0, 2), ((0, (1, 2), 3), (2, (3,), 3)))
-        self.assert_same(packets(made(Ask((0,), 9), 9, COUNTING), 0, 2), ((0, (1, 2), 3), (2, (3,), 3)))
-        self.assert_same(packets(made(Ask((0,), 9, stops=((3, 0),)), 9), 0, 1), ((0, (1,), 2), (1, (2,), 2)))
+        self.assert_same(packets(writing(Ask((0,), 3), 9), 0, 2), ((0, (1, 2), 3), (2, (3,), 3)))
+        self.assert_same(packets(writing(Ask((0,), 9), 9, COUNTING), 0, 2), ((0, (1, 2), 3), (2, (3,), 3)))
+        self.assert_same(packets(writing(Ask((0,), 9, stops=((3, 0),)), 9), 0, 1), ((0, (1,), 2), (1, (2,), 2)))
         stuck = Ask((0,), 9, rule=Rule(0, ((None, 0, 0, 1), (None,) * 4)))
-        self.assert_same(packets(made(stuck, 9), 0, 3), ((0, (1, 2, 3), 3),))
+        self.assert_same(packets(writing(stuck, 9), 0, 3), ((0, (1, 2, 3), 3),))
 
     def test_cancelled_and_out(self):
-        house = made(Ask((0,), 9, stops=((3, 3),)), 3)
+        house = writing(Ask((0,), 9, stops=((3, 3),)), 3)
         house.swap_out(0)
         self.assert_same(packets(house, 0, 8), ((0, (1, 2), None),))
         house.cancel(0)
         self.assert_same(packets(house, 0, 8), ((0, (1, 2), None),))
-        house = made(Ask((0,), 9), 0)
+        house = writing(Ask((0,), 9), 0)
         house.cancel(0)
         self.assert_same(packets(house, 0, 8), ((0, (), None),))
 
     def test_what_was_delivered_is_there_too(self):
-        house = made(Ask((0,), 9), 4)
+        house = writing(Ask((0,), 9), 4)
         house.deliver(0)
         before = whole_state(house)
         self.assert_same(packets(house, 0, 3), ((0, (1, 2, 3), None), (3, (0,), None)))
@@ -99,14 +85,14 @@ class Packets(Case):
             pair.check_all()
 
     def test_wrong_tickets_and_sizes(self):
-        house = made(Ask((0,), 9), 4)
+        house = writing(Ask((0,), 9), 4)
         before = whole_state(house)
         for ticket in wrong_numbers(0, 0):
             self.assert_fails(NoRequest, {"ticket": ticket}, packets, house, ticket, 1)
             self.assert_fails(NoRequest, {"ticket": ticket}, packets, house, ticket, 0)
         for size in wrong_numbers(1, 8):
             self.assert_fails(InvalidNumber, {"number": size}, packets, house, 0, size)
-            self.assert_fails(InvalidNumber, {"number": size}, packets, made(Ask((0,), 9), 0), 0, size)
+            self.assert_fails(InvalidNumber, {"number": size}, packets, writing(Ask((0,), 9), 0), 0, size)
         self.assertEqual(whole_state(house), before)
 
 
